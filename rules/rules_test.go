@@ -1,0 +1,130 @@
+// Package rules holds the packages' sources against the rules that no answer shows: what they import, what they export, which ways they lean on.
+package rules
+
+import (
+	"go/ast"
+	"go/parser"
+	"go/token"
+	"path/filepath"
+	"slices"
+	"strconv"
+	"strings"
+	"testing"
+)
+
+// calls are the layers that each layer's chapter lets it call.
+var calls = map[string]string{
+	"num":    "",
+	"width":  "num",
+	"shape":  "",
+	"val":    "num width shape",
+	"typed":  "num width shape val",
+	"budget": "",
+	"lex":    "num",
+	"tree":   "num lex",
+	"parse":  "lex tree",
+	"print":  "lex tree parse",
+	"text":   "num shape val lex",
+	"scalar": "num",
+	"spread": "shape val scalar",
+	"mould":  "shape val",
+	"seek":   "num shape val",
+	"prim":   "scalar spread mould seek",
+	"adverb": "val prim",
+	"cost":   "budget",
+	"base":   "val budget tree seek prim adverb cost",
+	"frame":  "num val scalar",
+	"plan":   "val budget tree scalar cost base frame",
+	"loop":   "num width typed frame",
+	"tier":   "val typed budget lex parse print text cost base frame plan loop",
+	"script": "tier",
+}
+
+// exports are the names that the chapters of the layers that are built list.
+var exports = map[string]string{
+	"num": "Add Cmp Div Int May Mod Mul Neg Of Sign Sub",
+}
+
+const library = "bytes cmp container/heap errors iter maps math math/bits slices sort strconv strings sync sync/atomic unicode unicode/utf8"
+
+// sources are a package's files, without its tests.
+func sources(t *testing.T, name string) []*ast.File {
+	t.Helper()
+	paths, err := filepath.Glob(filepath.Join("..", name, "*.go"))
+	if err != nil {
+		t.Fatal(err)
+	}
+	var files []*ast.File
+	for _, path := range paths {
+		if strings.HasSuffix(path, "_test.go") {
+			continue
+		}
+		f, err := parser.ParseFile(token.NewFileSet(), path, nil, 0)
+		if err != nil {
+			t.Fatal(err)
+		}
+		files = append(files, f)
+	}
+	if len(files) == 0 {
+		t.Fatalf("package %s has no source", name)
+	}
+	return files
+}
+
+func allowed(layer, path string) bool {
+	name, own := strings.CutPrefix(path, "reredos/")
+	if !own {
+		return slices.Contains(strings.Fields(library), path)
+	}
+	_, isLayer := calls[name]
+	return !isLayer || slices.Contains(strings.Fields(calls[layer]), name)
+}
+
+func TestImports(t *testing.T) { // R6, and the language's library
+	for layer := range calls {
+		for _, f := range sources(t, layer) {
+			for _, i := range f.Imports {
+				path, err := strconv.Unquote(i.Path.Value)
+				if err != nil || !allowed(layer, path) {
+					t.Errorf("%s imports %s", layer, i.Path.Value)
+				}
+			}
+		}
+	}
+}
+
+func TestExports(t *testing.T) { // R6: what a chapter doesn't list can't be called
+	for layer, want := range exports {
+		var names []string
+		for _, f := range sources(t, layer) {
+			for name := range f.Scope.Objects {
+				if ast.IsExported(name) {
+					names = append(names, name)
+				}
+			}
+		}
+		slices.Sort(names)
+		if got := strings.Join(names, " "); got != want {
+			t.Errorf("%s exports %s", layer, got)
+		}
+	}
+}
+
+func TestNumEmbeds(t *testing.T) { // Ways: a number embeds its parts
+	embedded := 0
+	for _, f := range sources(t, "num") {
+		ast.Inspect(f, func(n ast.Node) bool {
+			if s, ok := n.(*ast.StructType); ok {
+				for _, field := range s.Fields.List {
+					if len(field.Names) == 0 {
+						embedded++
+					}
+				}
+			}
+			return true
+		})
+	}
+	if embedded < 2 {
+		t.Errorf("num embeds %d parts", embedded)
+	}
+}
