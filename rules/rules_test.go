@@ -42,7 +42,8 @@ var calls = map[string]string{
 
 // exports are the names that the chapters of the layers that are built list.
 var exports = map[string]string{
-	"num": "Add Cmp Div Int May Mod Mul Neg Of Sign Sub",
+	"num":   "Add Cmp Div Int May Mod Mul Neg Of Sign Sub",
+	"width": "Add Fits Max Mul Next Of Sub",
 }
 
 const library = "bytes cmp container/heap errors iter maps math math/bits slices sort strconv strings sync sync/atomic unicode unicode/utf8"
@@ -110,21 +111,51 @@ func TestExports(t *testing.T) { // R6: what a chapter doesn't list can't be cal
 	}
 }
 
-func TestNumEmbeds(t *testing.T) { // Ways: a number embeds its parts
-	embedded := 0
-	for _, f := range sources(t, "num") {
+// count tells how many nodes of a package's sources are of a kind.
+func count(t *testing.T, layer string, is func(ast.Node) bool) int {
+	t.Helper()
+	found := 0
+	for _, f := range sources(t, layer) {
 		ast.Inspect(f, func(n ast.Node) bool {
-			if s, ok := n.(*ast.StructType); ok {
-				for _, field := range s.Fields.List {
-					if len(field.Names) == 0 {
-						embedded++
-					}
-				}
+			if is(n) {
+				found++
 			}
 			return true
 		})
 	}
-	if embedded < 2 {
-		t.Errorf("num embeds %d parts", embedded)
+	return found
+}
+
+func isEmbedded(n ast.Node) bool {
+	s, ok := n.(*ast.StructType)
+	return ok && slices.ContainsFunc(s.Fields.List, func(f *ast.Field) bool { return len(f.Names) == 0 })
+}
+
+func isArray(n ast.Node) bool {
+	a, ok := n.(*ast.ArrayType)
+	return ok && a.Len != nil
+}
+
+func isVariadic(n ast.Node) bool {
+	f, ok := n.(*ast.FuncType)
+	if !ok || len(f.Params.List) == 0 {
+		return false
+	}
+	_, dots := f.Params.List[len(f.Params.List)-1].Type.(*ast.Ellipsis)
+	return dots
+}
+
+func TestWays(t *testing.T) { // the document's section 'Ways'
+	for _, c := range []struct {
+		layer, way string
+		is         func(ast.Node) bool
+	}{
+		{"num", "a number embeds its parts", isEmbedded},
+		{"width", "widths stand in an array", isArray},
+		{"width", "the greatest one is told by a variadic call", isVariadic},
+	} {
+		if count(t, c.layer, c.is) == 0 {
+			t.Errorf("%s: not so that %s", c.layer, c.way)
+		}
 	}
 }
