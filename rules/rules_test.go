@@ -44,6 +44,7 @@ var calls = map[string]string{
 var exports = map[string]string{
 	"num":   "Add Cmp Div Int May Mod Mul Neg Of Sign Sub",
 	"width": "Add Fits Max Mul Next Of Sub",
+	"shape": "Items May Meet Offset Place Same Size",
 }
 
 const library = "bytes cmp container/heap errors iter maps math math/bits slices sort strconv strings sync sync/atomic unicode unicode/utf8"
@@ -145,6 +146,18 @@ func isVariadic(n ast.Node) bool {
 	return dots
 }
 
+func isLabelledLoop(n ast.Node) bool {
+	l, ok := n.(*ast.LabeledStmt)
+	if !ok {
+		return false
+	}
+	switch l.Stmt.(type) {
+	case *ast.ForStmt, *ast.RangeStmt:
+		return true
+	}
+	return false
+}
+
 func TestWays(t *testing.T) { // the document's section 'Ways'
 	for _, c := range []struct {
 		layer, way string
@@ -153,6 +166,7 @@ func TestWays(t *testing.T) { // the document's section 'Ways'
 		{"num", "a number embeds its parts", isEmbedded},
 		{"width", "widths stand in an array", isArray},
 		{"width", "the greatest one is told by a variadic call", isVariadic},
+		{"shape", "axes are gone through in a loop with a label", isLabelledLoop},
 	} {
 		if count(t, c.layer, c.is) == 0 {
 			t.Errorf("%s: not so that %s", c.layer, c.way)
