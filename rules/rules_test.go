@@ -45,6 +45,7 @@ var exports = map[string]string{
 	"num":   "Add Cmp Div Int May Mod Mul Neg Of Sign Sub",
 	"width": "Add Fits Max Mul Next Of Sub",
 	"shape": "Items May Meet Offset Place Same Size",
+	"val":   "All Int Ints Item Join Many May Same Scalar Vector Width",
 }
 
 const library = "bytes cmp container/heap errors iter maps math math/bits slices sort strconv strings sync sync/atomic unicode unicode/utf8"
@@ -158,6 +159,15 @@ func isLabelledLoop(n ast.Node) bool {
 	return false
 }
 
+func isCopy(n ast.Node) bool {
+	c, ok := n.(*ast.CallExpr)
+	if !ok {
+		return false
+	}
+	name, ok := c.Fun.(*ast.Ident)
+	return ok && name.Name == "copy"
+}
+
 func TestWays(t *testing.T) { // the document's section 'Ways'
 	for _, c := range []struct {
 		layer, way string
@@ -167,6 +177,7 @@ func TestWays(t *testing.T) { // the document's section 'Ways'
 		{"width", "widths stand in an array", isArray},
 		{"width", "the greatest one is told by a variadic call", isVariadic},
 		{"shape", "axes are gone through in a loop with a label", isLabelledLoop},
+		{"val", "an item's elements are copied", isCopy},
 	} {
 		if count(t, c.layer, c.is) == 0 {
 			t.Errorf("%s: not so that %s", c.layer, c.way)
