@@ -40,12 +40,13 @@ var calls = map[string]string{
 	"script": "tier",
 }
 
-// exports are the names that the chapters of the layers that are built list.
+// exports are the names that the chapters of the layers that are built list, with the methods of their types.
 var exports = map[string]string{
 	"num":   "Add Cmp Div Int May Mod Mul Neg Of Sign Sub",
 	"width": "Add Fits Max Mul Next Of Sub",
 	"shape": "Items May Meet Offset Place Same Size",
 	"val":   "All Int Ints Item Join Many May Same Scalar Vector Width",
+	"typed": "Pack Typed Typed.At Typed.Many Typed.May Typed.To Typed.Val",
 }
 
 const library = "bytes cmp container/heap errors iter maps math math/bits slices sort strconv strings sync sync/atomic unicode unicode/utf8"
@@ -96,6 +97,25 @@ func TestImports(t *testing.T) { // R6, and the language's library
 	}
 }
 
+// methods are the exported ones of a file's exported types, each behind its type.
+func methods(f *ast.File) []string {
+	var names []string
+	for _, d := range f.Decls {
+		m, ok := d.(*ast.FuncDecl)
+		if !ok || m.Recv == nil || !m.Name.IsExported() {
+			continue
+		}
+		of := m.Recv.List[0].Type
+		if star, ok := of.(*ast.StarExpr); ok {
+			of = star.X
+		}
+		if name, ok := of.(*ast.Ident); ok && name.IsExported() {
+			names = append(names, name.Name+"."+m.Name.Name)
+		}
+	}
+	return names
+}
+
 func TestExports(t *testing.T) { // R6: what a chapter doesn't list can't be called
 	for layer, want := range exports {
 		var names []string
@@ -105,6 +125,7 @@ func TestExports(t *testing.T) { // R6: what a chapter doesn't list can't be cal
 					names = append(names, name)
 				}
 			}
+			names = append(names, methods(f)...)
 		}
 		slices.Sort(names)
 		if got := strings.Join(names, " "); got != want {
@@ -168,6 +189,24 @@ func isCopy(n ast.Node) bool {
 	return ok && name.Name == "copy"
 }
 
+// isRangeOverInteger knows whole numbers that are written as such: figures, a length, and what is reckoned of some.
+func isRangeOverInteger(n ast.Node) bool {
+	r, ok := n.(*ast.RangeStmt)
+	if !ok {
+		return false
+	}
+	switch x := r.X.(type) {
+	case *ast.BasicLit:
+		return x.Kind == token.INT
+	case *ast.CallExpr:
+		name, ok := x.Fun.(*ast.Ident)
+		return ok && name.Name == "len"
+	case *ast.BinaryExpr:
+		return x.Op == token.SUB || x.Op == token.MUL || x.Op == token.QUO
+	}
+	return false
+}
+
 func TestWays(t *testing.T) { // the document's section 'Ways'
 	for _, c := range []struct {
 		layer, way string
@@ -178,6 +217,7 @@ func TestWays(t *testing.T) { // the document's section 'Ways'
 		{"width", "the greatest one is told by a variadic call", isVariadic},
 		{"shape", "axes are gone through in a loop with a label", isLabelledLoop},
 		{"val", "an item's elements are copied", isCopy},
+		{"typed", "bytes are put together in a range over an integer", isRangeOverInteger},
 	} {
 		if count(t, c.layer, c.is) == 0 {
 			t.Errorf("%s: not so that %s", c.layer, c.way)
