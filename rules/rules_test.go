@@ -42,11 +42,12 @@ var calls = map[string]string{
 
 // exports are the names that the chapters of the layers that are built list, with the methods of their types.
 var exports = map[string]string{
-	"num":   "Add Cmp Div Int May Mod Mul Neg Of Sign Sub",
-	"width": "Add Fits Max Mul Next Of Sub",
-	"shape": "Items May Meet Offset Place Same Size",
-	"val":   "All Int Ints Item Join Many May Same Scalar Vector Width",
-	"typed": "Pack Typed Typed.At Typed.Many Typed.May Typed.To Typed.Val",
+	"num":    "Add Cmp Div Int May Mod Mul Neg Of Sign Sub",
+	"width":  "Add Fits Max Mul Next Of Sub",
+	"shape":  "Items May Meet Offset Place Same Size",
+	"val":    "All Int Ints Item Join Many May Same Scalar Vector Width",
+	"typed":  "Pack Typed Typed.At Typed.Many Typed.May Typed.To Typed.Val",
+	"budget": "Budget Budget.Can Budget.Pay New Sum Times",
 }
 
 const library = "bytes cmp container/heap errors iter maps math math/bits slices sort strconv strings sync sync/atomic unicode unicode/utf8"
@@ -207,6 +208,35 @@ func isRangeOverInteger(n ast.Node) bool {
 	return false
 }
 
+// methodValueOf knows a layer's own method that is named, but not called, of a value.
+func methodValueOf(t *testing.T, layer string) func(ast.Node) bool {
+	t.Helper()
+	methods, types, called := map[string]int{}, map[string]int{}, map[ast.Expr]int{}
+	for _, f := range sources(t, layer) {
+		for _, d := range f.Decls {
+			if m, ok := d.(*ast.FuncDecl); ok && m.Recv != nil {
+				methods[m.Name.Name]++
+			}
+		}
+		for name, o := range f.Scope.Objects {
+			if o.Kind == ast.Typ {
+				types[name]++
+			}
+		}
+	}
+	return func(n ast.Node) bool {
+		if c, ok := n.(*ast.CallExpr); ok { // it is gone through ahead of what it calls
+			called[c.Fun]++
+		}
+		s, ok := n.(*ast.SelectorExpr)
+		if !ok || methods[s.Sel.Name] == 0 || called[s] > 0 {
+			return false
+		}
+		of, ok := s.X.(*ast.Ident)
+		return ok && types[of.Name] == 0
+	}
+}
+
 func TestWays(t *testing.T) { // the document's section 'Ways'
 	for _, c := range []struct {
 		layer, way string
@@ -218,6 +248,7 @@ func TestWays(t *testing.T) { // the document's section 'Ways'
 		{"shape", "axes are gone through in a loop with a label", isLabelledLoop},
 		{"val", "an item's elements are copied", isCopy},
 		{"typed", "bytes are put together in a range over an integer", isRangeOverInteger},
+		{"budget", "both parts are done alike by a method value", methodValueOf(t, "budget")},
 	} {
 		if count(t, c.layer, c.is) == 0 {
 			t.Errorf("%s: not so that %s", c.layer, c.way)
