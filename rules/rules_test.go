@@ -48,6 +48,7 @@ var exports = map[string]string{
 	"val":    "All Int Ints Item Join Many May Same Scalar Vector Width",
 	"typed":  "Pack Typed Typed.At Typed.Many Typed.May Typed.To Typed.Val",
 	"budget": "Budget Budget.Can Budget.Pay New Sum Times",
+	"lex":    "Adv Join Lex Literal Mark Num Number Sign Verb Word",
 }
 
 const library = "bytes cmp container/heap errors iter maps math math/bits slices sort strconv strings sync sync/atomic unicode unicode/utf8"
@@ -208,6 +209,27 @@ func isRangeOverInteger(n ast.Node) bool {
 	return false
 }
 
+// isClosure knows a function that uses what a function around it has declared.
+func isClosure(n ast.Node) bool {
+	f, ok := n.(*ast.FuncLit)
+	if !ok {
+		return false
+	}
+	closed := false
+	ast.Inspect(f.Body, func(n ast.Node) bool {
+		if name, ok := n.(*ast.Ident); ok && name.Obj != nil && name.Obj.Kind == ast.Var {
+			closed = closed || name.Obj.Pos() < f.Pos() || name.Obj.Pos() > f.End()
+		}
+		return true
+	})
+	return closed
+}
+
+func isIota(n ast.Node) bool {
+	name, ok := n.(*ast.Ident)
+	return ok && name.Name == "iota"
+}
+
 // methodValueOf knows a layer's own method that is named, but not called, of a value.
 func methodValueOf(t *testing.T, layer string) func(ast.Node) bool {
 	t.Helper()
@@ -249,6 +271,9 @@ func TestWays(t *testing.T) { // the document's section 'Ways'
 		{"val", "an item's elements are copied", isCopy},
 		{"typed", "bytes are put together in a range over an integer", isRangeOverInteger},
 		{"budget", "both parts are done alike by a method value", methodValueOf(t, "budget")},
+		{"lex", "bytes are told apart in a loop with a label", isLabelledLoop},
+		{"lex", "what ends a part is told by a closure", isClosure},
+		{"lex", "kinds are told by iota", isIota},
 	} {
 		if count(t, c.layer, c.is) == 0 {
 			t.Errorf("%s: not so that %s", c.layer, c.way)
