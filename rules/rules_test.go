@@ -50,6 +50,7 @@ var exports = map[string]string{
 	"budget": "Budget Budget.Can Budget.Pay New Sum Times",
 	"lex":    "Adv Join Lex Literal Mark Num Number Sign Verb Word",
 	"tree":   "Depth End Kids May Node Same Under",
+	"parse":  "Parse Toks",
 }
 
 const library = "bytes cmp container/heap errors iter maps math math/bits slices sort strconv strings sync sync/atomic unicode unicode/utf8"
@@ -276,6 +277,7 @@ func TestWays(t *testing.T) { // the document's section 'Ways'
 		{"lex", "what ends a part is told by a closure", isClosure},
 		{"lex", "kinds are told by iota", isIota},
 		{"tree", "trees are put together by a variadic call", isVariadic},
+		{"parse", "trees are put together by variadic calls", isVariadic},
 	} {
 		if count(t, c.layer, c.is) == 0 {
 			t.Errorf("%s: not so that %s", c.layer, c.way)
