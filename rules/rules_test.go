@@ -51,6 +51,7 @@ var exports = map[string]string{
 	"lex":    "Adv Join Lex Literal Mark Num Number Sign Verb Word",
 	"tree":   "Depth End Kids May Node Same Under",
 	"parse":  "Parse Toks",
+	"print":  "Canonical Print",
 }
 
 const library = "bytes cmp container/heap errors iter maps math math/bits slices sort strconv strings sync sync/atomic unicode unicode/utf8"
@@ -261,6 +262,46 @@ func methodValueOf(t *testing.T, layer string) func(ast.Node) bool {
 	}
 }
 
+// isMapOf tells of a layer whether it writes out a map, all of whose values are of a kind.
+func isMapOf(value func(ast.Node) bool) func(ast.Node) bool {
+	return func(n ast.Node) bool {
+		l, ok := n.(*ast.CompositeLit)
+		if !ok {
+			return false
+		}
+		_, ok = l.Type.(*ast.MapType)
+		return ok && len(l.Elts) > 0 && !slices.ContainsFunc(l.Elts, func(e ast.Expr) bool {
+			pair, ok := e.(*ast.KeyValueExpr)
+			return !ok || !value(pair.Value)
+		})
+	}
+}
+
+// methodExpressionOf knows a layer's own method that is named of a type.
+func methodExpressionOf(t *testing.T, layer string) func(ast.Node) bool {
+	t.Helper()
+	methods := map[string]int{} // each behind its type
+	for _, f := range sources(t, layer) {
+		for _, d := range f.Decls {
+			m, ok := d.(*ast.FuncDecl)
+			if !ok || m.Recv == nil {
+				continue
+			}
+			if of, ok := m.Recv.List[0].Type.(*ast.Ident); ok {
+				methods[of.Name+"."+m.Name.Name]++
+			}
+		}
+	}
+	return func(n ast.Node) bool {
+		s, ok := n.(*ast.SelectorExpr)
+		if !ok {
+			return false
+		}
+		of, ok := s.X.(*ast.Ident)
+		return ok && methods[of.Name+"."+s.Sel.Name] > 0
+	}
+}
+
 func TestWays(t *testing.T) { // the document's section 'Ways'
 	for _, c := range []struct {
 		layer, way string
@@ -278,6 +319,7 @@ func TestWays(t *testing.T) { // the document's section 'Ways'
 		{"lex", "kinds are told by iota", isIota},
 		{"tree", "trees are put together by a variadic call", isVariadic},
 		{"parse", "trees are put together by variadic calls", isVariadic},
+		{"print", "nodes are printed through a map of method expressions", isMapOf(methodExpressionOf(t, "print"))},
 	} {
 		if count(t, c.layer, c.is) == 0 {
 			t.Errorf("%s: not so that %s", c.layer, c.way)
