@@ -52,6 +52,7 @@ var exports = map[string]string{
 	"tree":   "Depth End Kids May Node Same Under",
 	"parse":  "Parse Toks",
 	"print":  "Canonical Print",
+	"text":   "Read Text",
 }
 
 const library = "bytes cmp container/heap errors iter maps math math/bits slices sort strconv strings sync sync/atomic unicode unicode/utf8"
@@ -320,6 +321,7 @@ func TestWays(t *testing.T) { // the document's section 'Ways'
 		{"tree", "trees are put together by a variadic call", isVariadic},
 		{"parse", "trees are put together by variadic calls", isVariadic},
 		{"print", "nodes are printed through a map of method expressions", isMapOf(methodExpressionOf(t, "print"))},
+		{"text", "texts of numbers are told by a closure", isClosure},
 	} {
 		if count(t, c.layer, c.is) == 0 {
 			t.Errorf("%s: not so that %s", c.layer, c.way)
