@@ -53,6 +53,7 @@ var exports = map[string]string{
 	"parse":  "Parse Toks",
 	"print":  "Canonical Print",
 	"text":   "Read Text",
+	"scalar": "Dyad Dyads Monad Monads Unit Whole",
 }
 
 const library = "bytes cmp container/heap errors iter maps math math/bits slices sort strconv strings sync sync/atomic unicode unicode/utf8"
@@ -278,6 +279,76 @@ func isMapOf(value func(ast.Node) bool) func(ast.Node) bool {
 	}
 }
 
+// functionOf knows a function that is written out, or named: a layer's own one, or what a package beside it exports.
+func functionOf(t *testing.T, layer string) func(ast.Node) bool {
+	t.Helper()
+	functions := objects(t, layer, ast.Fun)
+	return func(n ast.Node) bool {
+		switch x := n.(type) {
+		case *ast.FuncLit:
+			return true
+		case *ast.Ident:
+			return functions[x.Name] > 0
+		case *ast.SelectorExpr:
+			of, ok := x.X.(*ast.Ident)
+			return ok && of.Obj == nil // a package has no object in the file
+		}
+		return false
+	}
+}
+
+// constantOf knows what is written out, and names of a layer's own constants.
+func constantOf(t *testing.T, layer string) func(ast.Node) bool {
+	t.Helper()
+	constants := objects(t, layer, ast.Con)
+	return func(n ast.Node) bool {
+		switch x := n.(type) {
+		case *ast.BasicLit:
+			return true
+		case *ast.Ident:
+			return constants[x.Name] > 0 || x.Name == "true" || x.Name == "false"
+		}
+		return false
+	}
+}
+
+// objects are the names of a kind that a layer declares at package level.
+func objects(t *testing.T, layer string, kind ast.ObjKind) map[string]int {
+	t.Helper()
+	names := map[string]int{}
+	for _, f := range sources(t, layer) {
+		for name, o := range f.Scope.Objects {
+			if o.Kind == kind {
+				names[name]++
+			}
+		}
+	}
+	return names
+}
+
+// isTableOf tells of a layer whether it writes out a list, an array or a map of three constants or more, or of rows of them.
+func isTableOf(constant func(ast.Node) bool) func(ast.Node) bool {
+	var fixed func(e ast.Expr) bool
+	fixed = func(e ast.Expr) bool {
+		if pair, ok := e.(*ast.KeyValueExpr); ok {
+			e = pair.Value
+		}
+		row, ok := e.(*ast.CompositeLit)
+		return constant(e) || ok && !slices.ContainsFunc(row.Elts, func(e ast.Expr) bool { return !fixed(e) })
+	}
+	return func(n ast.Node) bool {
+		l, ok := n.(*ast.CompositeLit)
+		if !ok || len(l.Elts) < 3 {
+			return false
+		}
+		switch l.Type.(type) {
+		case *ast.ArrayType, *ast.MapType:
+			return fixed(l)
+		}
+		return false
+	}
+}
+
 // methodExpressionOf knows a layer's own method that is named of a type.
 func methodExpressionOf(t *testing.T, layer string) func(ast.Node) bool {
 	t.Helper()
@@ -322,6 +393,8 @@ func TestWays(t *testing.T) { // the document's section 'Ways'
 		{"parse", "trees are put together by variadic calls", isVariadic},
 		{"print", "nodes are printed through a map of method expressions", isMapOf(methodExpressionOf(t, "print"))},
 		{"text", "texts of numbers are told by a closure", isClosure},
+		{"scalar", "what signs do stands in a map of functions", isMapOf(functionOf(t, "scalar"))},
+		{"scalar", "signs stand in a constant table", isTableOf(constantOf(t, "scalar"))},
 	} {
 		if count(t, c.layer, c.is) == 0 {
 			t.Errorf("%s: not so that %s", c.layer, c.way)
