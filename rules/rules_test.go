@@ -54,6 +54,7 @@ var exports = map[string]string{
 	"print":  "Canonical Print",
 	"text":   "Read Text",
 	"scalar": "Dyad Dyads Monad Monads Unit Whole",
+	"spread": "Dyad Monad Ops",
 }
 
 const library = "bytes cmp container/heap errors iter maps math math/bits slices sort strconv strings sync sync/atomic unicode unicode/utf8"
@@ -374,6 +375,48 @@ func methodExpressionOf(t *testing.T, layer string) func(ast.Node) bool {
 	}
 }
 
+// isIterator knows the library's types of what can be ranged over.
+func isIterator(e ast.Expr) bool {
+	switch x := e.(type) {
+	case *ast.IndexExpr:
+		e = x.X
+	case *ast.IndexListExpr:
+		e = x.X
+	}
+	s, ok := e.(*ast.SelectorExpr)
+	if !ok {
+		return false
+	}
+	of, ok := s.X.(*ast.Ident)
+	return ok && of.Name == "iter" && (s.Sel.Name == "Seq" || s.Sel.Name == "Seq2")
+}
+
+// rangeOverIteratorOf knows a loop over the iterator that a layer's own function tells.
+func rangeOverIteratorOf(t *testing.T, layer string) func(ast.Node) bool {
+	t.Helper()
+	iterators := map[string]int{}
+	for _, f := range sources(t, layer) {
+		for _, d := range f.Decls {
+			m, ok := d.(*ast.FuncDecl)
+			if ok && m.Recv == nil && m.Type.Results.NumFields() == 1 && isIterator(m.Type.Results.List[0].Type) {
+				iterators[m.Name.Name]++
+			}
+		}
+	}
+	return func(n ast.Node) bool {
+		r, ok := n.(*ast.RangeStmt)
+		if !ok {
+			return false
+		}
+		c, ok := r.X.(*ast.CallExpr)
+		if !ok {
+			return false
+		}
+		name, ok := c.Fun.(*ast.Ident)
+		return ok && iterators[name.Name] > 0
+	}
+}
+
 func TestWays(t *testing.T) { // the document's section 'Ways'
 	for _, c := range []struct {
 		layer, way string
@@ -395,6 +438,7 @@ func TestWays(t *testing.T) { // the document's section 'Ways'
 		{"text", "texts of numbers are told by a closure", isClosure},
 		{"scalar", "what signs do stands in a map of functions", isMapOf(functionOf(t, "scalar"))},
 		{"scalar", "signs stand in a constant table", isTableOf(constantOf(t, "scalar"))},
+		{"spread", "elements are paired by an iterator that is ranged over", rangeOverIteratorOf(t, "spread")},
 	} {
 		if count(t, c.layer, c.is) == 0 {
 			t.Errorf("%s: not so that %s", c.layer, c.way)
