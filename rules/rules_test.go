@@ -55,6 +55,7 @@ var exports = map[string]string{
 	"text":   "Read Text",
 	"scalar": "Dyad Dyads Monad Monads Unit Whole",
 	"spread": "Dyad Monad Ops",
+	"mould":  "Drop Flip Iota Join Ravel Reshape Reverse Shape Take Tally",
 }
 
 const library = "bytes cmp container/heap errors iter maps math math/bits slices sort strconv strings sync sync/atomic unicode unicode/utf8"
@@ -417,6 +418,21 @@ func rangeOverIteratorOf(t *testing.T, layer string) func(ast.Node) bool {
 	}
 }
 
+// isGenericCut knows a function of type parameters that cuts with three indexes.
+func isGenericCut(n ast.Node) bool {
+	f, ok := n.(*ast.FuncDecl)
+	if !ok || f.Type.TypeParams.NumFields() == 0 {
+		return false
+	}
+	cuts := false
+	ast.Inspect(f.Body, func(n ast.Node) bool {
+		s, ok := n.(*ast.SliceExpr)
+		cuts = cuts || ok && s.Slice3
+		return true
+	})
+	return cuts
+}
+
 func TestWays(t *testing.T) { // the document's section 'Ways'
 	for _, c := range []struct {
 		layer, way string
@@ -439,6 +455,7 @@ func TestWays(t *testing.T) { // the document's section 'Ways'
 		{"scalar", "what signs do stands in a map of functions", isMapOf(functionOf(t, "scalar"))},
 		{"scalar", "signs stand in a constant table", isTableOf(constantOf(t, "scalar"))},
 		{"spread", "elements are paired by an iterator that is ranged over", rangeOverIteratorOf(t, "spread")},
+		{"mould", "items are cut with three indexes, by a generic function", isGenericCut},
 	} {
 		if count(t, c.layer, c.is) == 0 {
 			t.Errorf("%s: not so that %s", c.layer, c.way)
