@@ -56,6 +56,7 @@ var exports = map[string]string{
 	"scalar": "Dyad Dyads Monad Monads Unit Whole",
 	"spread": "Dyad Monad Ops",
 	"mould":  "Drop Flip Iota Join Ravel Reshape Reverse Shape Take Tally",
+	"seek":   "Amend Down Find Index Unique Up Where",
 }
 
 const library = "bytes cmp container/heap errors iter maps math math/bits slices sort strconv strings sync sync/atomic unicode unicode/utf8"
@@ -433,6 +434,35 @@ func isGenericCut(n ast.Node) bool {
 	return cuts
 }
 
+// isFromHeap knows what is taken of a heap of the library by a type assertion.
+func isFromHeap(n ast.Node) bool {
+	a, ok := n.(*ast.TypeAssertExpr)
+	if !ok || a.Type == nil {
+		return false
+	}
+	c, ok := a.X.(*ast.CallExpr)
+	if !ok {
+		return false
+	}
+	s, ok := c.Fun.(*ast.SelectorExpr)
+	if !ok {
+		return false
+	}
+	of, ok := s.X.(*ast.Ident)
+	return ok && of.Obj == nil && of.Name == "heap" && s.Sel.Name == "Pop" // a package has no object in the file
+}
+
+// isMapOfPlaces knows a map of texts, each with a whole number.
+func isMapOfPlaces(n ast.Node) bool {
+	m, ok := n.(*ast.MapType)
+	if !ok {
+		return false
+	}
+	key, isName := m.Key.(*ast.Ident)
+	value, alsoName := m.Value.(*ast.Ident)
+	return isName && alsoName && key.Name == "string" && value.Name == "int"
+}
+
 func TestWays(t *testing.T) { // the document's section 'Ways'
 	for _, c := range []struct {
 		layer, way string
@@ -456,6 +486,8 @@ func TestWays(t *testing.T) { // the document's section 'Ways'
 		{"scalar", "signs stand in a constant table", isTableOf(constantOf(t, "scalar"))},
 		{"spread", "elements are paired by an iterator that is ranged over", rangeOverIteratorOf(t, "spread")},
 		{"mould", "items are cut with three indexes, by a generic function", isGenericCut},
+		{"seek", "places are ordered by a heap of the library, of which they are taken by a type assertion", isFromHeap},
+		{"seek", "where elements are first stands in a map", isMapOfPlaces},
 	} {
 		if count(t, c.layer, c.is) == 0 {
 			t.Errorf("%s: not so that %s", c.layer, c.way)
