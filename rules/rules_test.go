@@ -57,6 +57,7 @@ var exports = map[string]string{
 	"spread": "Dyad Monad Ops",
 	"mould":  "Drop Flip Iota Join Ravel Reshape Reverse Shape Take Tally",
 	"seek":   "Amend Down Find Index Unique Up Where",
+	"prim":   "Sign Sign.One Sign.Two Sign.Unit Verb",
 }
 
 const library = "bytes cmp container/heap errors iter maps math math/bits slices sort strconv strings sync sync/atomic unicode unicode/utf8"
@@ -488,6 +489,8 @@ func TestWays(t *testing.T) { // the document's section 'Ways'
 		{"mould", "items are cut with three indexes, by a generic function", isGenericCut},
 		{"seek", "places are ordered by a heap of the library, of which they are taken by a type assertion", isFromHeap},
 		{"seek", "where elements are first stands in a map", isMapOfPlaces},
+		{"prim", "what signs mean stands in maps", isMapOf(functionOf(t, "prim"))},
+		{"prim", "a sign's own is a method value", methodValueOf(t, "prim")},
 	} {
 		if count(t, c.layer, c.is) == 0 {
 			t.Errorf("%s: not so that %s", c.layer, c.way)
