@@ -58,6 +58,7 @@ var exports = map[string]string{
 	"mould":  "Drop Flip Iota Join Ravel Reshape Reverse Shape Take Tally",
 	"seek":   "Amend Down Find Index Unique Up Where",
 	"prim":   "Sign Sign.One Sign.Two Sign.Unit Verb",
+	"adverb": "Both Each Outer Prior Reduce Scan",
 }
 
 const library = "bytes cmp container/heap errors iter maps math math/bits slices sort strconv strings sync sync/atomic unicode unicode/utf8"
@@ -491,6 +492,7 @@ func TestWays(t *testing.T) { // the document's section 'Ways'
 		{"seek", "where elements are first stands in a map", isMapOfPlaces},
 		{"prim", "what signs mean stands in maps", isMapOf(functionOf(t, "prim"))},
 		{"prim", "a sign's own is a method value", methodValueOf(t, "prim")},
+		{"adverb", "items are gone through by an iterator that is ranged over", rangeOverIteratorOf(t, "adverb")},
 	} {
 		if count(t, c.layer, c.is) == 0 {
 			t.Errorf("%s: not so that %s", c.layer, c.way)
