@@ -59,6 +59,7 @@ var exports = map[string]string{
 	"seek":   "Amend Down Find Index Unique Up Where",
 	"prim":   "Sign Sign.One Sign.Two Sign.Unit Verb",
 	"adverb": "Both Each Outer Prior Reduce Scan",
+	"cost":   "Call Loop Node Of Size",
 }
 
 const library = "bytes cmp container/heap errors iter maps math math/bits slices sort strconv strings sync sync/atomic unicode unicode/utf8"
@@ -178,6 +179,27 @@ func isVariadic(n ast.Node) bool {
 	}
 	_, dots := f.Params.List[len(f.Params.List)-1].Type.(*ast.Ellipsis)
 	return dots
+}
+
+// variadicCallOf knows a call of a layer's own variadic function, to which a list is handed.
+func variadicCallOf(t *testing.T, layer string) func(ast.Node) bool {
+	t.Helper()
+	variadic := map[string]int{}
+	for _, f := range sources(t, layer) {
+		for _, d := range f.Decls {
+			if m, ok := d.(*ast.FuncDecl); ok && m.Recv == nil && isVariadic(m.Type) {
+				variadic[m.Name.Name]++
+			}
+		}
+	}
+	return func(n ast.Node) bool {
+		c, ok := n.(*ast.CallExpr)
+		if !ok || !c.Ellipsis.IsValid() {
+			return false
+		}
+		name, ok := c.Fun.(*ast.Ident)
+		return ok && variadic[name.Name] > 0
+	}
 }
 
 func isLabelledLoop(n ast.Node) bool {
@@ -493,6 +515,7 @@ func TestWays(t *testing.T) { // the document's section 'Ways'
 		{"prim", "what signs mean stands in maps", isMapOf(functionOf(t, "prim"))},
 		{"prim", "a sign's own is a method value", methodValueOf(t, "prim")},
 		{"adverb", "items are gone through by an iterator that is ranged over", rangeOverIteratorOf(t, "adverb")},
+		{"cost", "sizes are told by a variadic call", variadicCallOf(t, "cost")},
 	} {
 		if count(t, c.layer, c.is) == 0 {
 			t.Errorf("%s: not so that %s", c.layer, c.way)
